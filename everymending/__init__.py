@@ -1,0 +1,1 @@
+"""Everymending: what is sure in a database whose keys are broken."""
