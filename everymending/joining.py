@@ -56,6 +56,31 @@ def matched(relation, other):
     return (variables, [row for row in rows if tuple([row[at] for at in here]) in seen])
 
 
+def parts_apart(marked):
+    """Returns the list of the smallest parts of some things, of which no two share a mark.
+
+    `marked` is a list of pairs of a thing and the list of its marks.
+    """
+    parts = {}
+    homes = {}
+    for number, (thing, marks) in enumerate(marked):
+        things = [thing]
+        own = []
+        for mark in marks:
+            home = homes.get(mark)
+            if home is None:
+                own.append(mark)
+            elif home != number:
+                others, theirs = parts.pop(home)
+                things = others + things
+                own.extend(theirs)
+                for other in theirs:
+                    homes[other] = number
+            homes[mark] = number
+        parts[number] = (things, own)
+    return [things for things, _ in parts.values()]
+
+
 def reduced(relations):
     """Returns the relations in which each row goes together with some row of each other relation.
 

@@ -7,7 +7,7 @@ bound variables is kept, and equal papers are made, and judged, once.
 from everymending.attacks import plan_of
 from everymending.blocks import blocks_of
 from everymending.errors import NoPlan
-from everymending.joining import fact_of, fixed, relations_of, some_values
+from everymending.joining import fact_of, fixed, parts_apart, relations_of, some_values
 from everymending.mendings import exchanged, mending_at
 from everymending.questions import values_of_terms, variables_of
 
@@ -69,19 +69,9 @@ class Reckoning:
 
         So they are sure together exactly if each part is. The places in a part are in order.
         """
-        parts = []
-        for place in places:
-            part = [place]
-            variables = [variable for variable in self.inside[place] if variable not in values]
-            apart = []
-            for others, theirs in parts:
-                if any(variable in theirs for variable in variables):
-                    part = others + part
-                    variables = variables + theirs
-                else:
-                    apart.append((others, theirs))
-            parts = apart + [(part, variables)]
-        return [tuple(sorted(part)) for part, _ in parts]
+        marked = [(place, [variable for variable in self.inside[place] if variable not in values])
+                  for place in places]
+        return [tuple(sorted(part)) for part in parts_apart(marked)]
 
     def is_sure(self, places, values):
         """Tells whether these atoms, the last ones of the plan or of a part, are sure together."""

@@ -228,7 +228,82 @@ def is_tree(schema, store, question, tree, choices=None):
     return False
 
 
-# What may stand in the place of a part of a paper or a tree.
+def possible(schema, store, question):
+    """The possible rows."""
+    return tuple(in_order([row for mending in mendings(schema, store)
+                           for row in answers(mending, question)]))
+
+
+def lots(schema, store, question):
+    """[41], by looking at all valuations; in order, and only the smallest ones."""
+    groups = blocks(schema, store)
+    found = set()
+    for _, body in question[1]:
+        for values in valuations(store, body):
+            facts = {(name, turned(terms, values)) for name, terms in body}
+            if len({place(schema, fact) for fact in facts}) == len(facts):
+                found.add(frozenset([fact for fact in facts
+                                     if len(groups[place(schema, fact)]) > 1]))
+    least = [lot for lot in found if not any(other < lot for other in found)]
+    return tuple(sorted([store_of(*lot) for lot in least],
+                        key=lambda lot: [(name, rank(row)) for name, row in lot]))
+
+
+def sum_of(rows, column):
+    return sum(row[column] for row in rows if isinstance(row[column], int))
+
+
+def with_choices(schema, store, choices):
+    """The store without the rivals of the choices, which are a dict of rows by places."""
+    return tuple([fact for fact in store
+                  if choices.get(place(schema, fact), fact[1]) == fact[1]])
+
+
+def is_strategy(schema, store, question, strategy):
+    """[36]; the store has lost the rivals of the choices."""
+    if not isinstance(strategy, tuple) or not strategy:
+        return False
+    if strategy[0] == "tell" and len(strategy) == 2 and strategy[1] in (0, 1):
+        return all(holds(mending, question) == (strategy[1] == 1)
+                   for mending in mendings(schema, store))
+    if strategy[0] == "ask" and len(strategy) == 4:
+        groups = blocks(schema, store)
+        found = [spot for spot, rows in groups.items()
+                 if spot == (strategy[1], strategy[2]) and len(rows) > 1]
+        if not found or not are_branches(strategy[3], groups[found[0]]):
+            return False
+        return all(is_strategy(schema, with_choices(schema, store, {found[0]: row}), question,
+                               further) for row, further in strategy[3])
+    return False
+
+
+def depth(strategy):
+    if strategy[0] == "tell":
+        return 0
+    return 1 + max([depth(further) for _, further in strategy[3]])
+
+
+def least_depth(schema, store, question):
+    """The depth of a best strategy, by trying all strategies."""
+    verdicts = {mending: holds(mending, question) for mending in mendings(schema, store)}
+    groups = [list(rows) for rows in blocks(schema, store).values()]
+    known = {}
+
+    def least(chosen):
+        """`chosen` has a row, or None, for each block."""
+        if chosen not in known:
+            told = {verdict for mending, verdict in verdicts.items()
+                    if all(row in (None, fact[1]) for row, fact in zip(chosen, mending))}
+            asks = [at for at, row in enumerate(chosen) if row is None and len(groups[at]) > 1]
+            known[chosen] = 0 if len(told) == 1 else 1 + min(
+                [max([least(chosen[:at] + (row,) + chosen[at + 1:]) for row in groups[at]])
+                 for at in asks])
+        return known[chosen]
+
+    return least(tuple([None for _ in groups]))
+
+
+# What may stand in the place of a part of a paper, a tree or a strategy.
 STRANGE = [(), (()), 0, 1, -1, 2, 99, "", "a", "b", "leaf", "split", "x", ("a",), (1,), ((), ()),
            (("a", ()),), ("leaf", 0, ()), ("split", "a", (), ())]
 
@@ -303,6 +378,16 @@ class Chances:
         left = list(schema)
         tables = [left.pop(self.below(len(left))) for _ in range(self.below(len(left) + 1))]
         return tuple([self.atom(table, names, values) for table in tables])
+
+    def question(self, schema, width, names, values):
+        """A valid question with at most three joins."""
+        joins = []
+        for _ in range(self.below(4)):
+            body = self.body(schema, self.below(4), names, values)
+            inside = sorted(set().union(*[variables(terms) for _, terms in body]))
+            joins.append((tuple([var(self.pick(inside)) if inside and self.below(4) else
+                                 val(self.pick(values)) for _ in range(width)]), body))
+        return (width, tuple(joins))
 
     def store(self, schema, many, values):
         facts = []
