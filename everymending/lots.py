@@ -18,8 +18,9 @@ SETTLED = -1
 
 def has_all_of_another(lot, lots):
     """Tells whether the lot has all numbers of another one of the dict of lots."""
-    for many in range(len(lot)):
-        for part in combinations(list(lot), many):
+    numbers = list(lot)
+    for many in range(len(numbers)):
+        for part in combinations(numbers, many):
             if part in lots:
                 return True
     return False

@@ -39,10 +39,10 @@ def integer_at(text, at):
     return ("value", int(text[at:end]), end)
 
 
-def token_at(text, at):
+def token_at(text, at, signs):
     """Returns the kind and the content of the token at this index, and the index behind it.
 
-    The kind is "word", "value", or the sign itself. Returns None if no token begins there.
+    The kind is "word", "value", or one of the signs. Returns None if no token begins there.
     """
     sign = text[at]
     if "a" <= sign <= "z":
@@ -52,7 +52,7 @@ def token_at(text, at):
         return quoted_at(text, at)
     if sign == "-" or "0" <= sign <= "9":
         return integer_at(text, at)
-    if sign in SIGNS:
+    if sign in signs:
         return (sign, sign, at + 1)
     return None
 
@@ -63,9 +63,10 @@ class Line:
     The kind is "end" behind the last token.
     """
 
-    def __init__(self, number, text):
+    def __init__(self, number, text, signs):
         self.number = number
         self.text = text
+        self.signs = signs
         self.behind = 0
         self.step()
 
@@ -75,7 +76,7 @@ class Line:
         if self.at == len(self.text):
             self.kind, self.content = "end", None
             return
-        token = token_at(self.text, self.at)
+        token = token_at(self.text, self.at, self.signs)
         if token is None:
             raise BadText(self.number, self.at)
         self.kind, self.content, self.behind = token
@@ -180,7 +181,7 @@ def read_book(text):
     tables = {}
     facts = []
     for number, content in enumerate(text.split("\n")):
-        line = Line(number, content)
+        line = Line(number, content, SIGNS)
         if line.kind != "end":
             read_book_line(line, tables, facts)
     schema = tuple(sorted(tables.values()))
@@ -238,7 +239,7 @@ def read_joins(line, tables):
 
 def read_question(schema, text):
     """Returns the question that the text writes; raises BadText, then NoQuestion."""
-    line = Line(0, text)
+    line = Line(0, text, SIGNS)
     if line.shows("none"):
         line.step()
         question = (read_number(line, None), ())

@@ -253,6 +253,36 @@ def sum_of(rows, column):
     return sum(row[column] for row in rows if isinstance(row[column], int))
 
 
+def values_in(sentence):
+    """The values that stand in a sentence."""
+    if sentence[0] in ("fact", "same"):
+        terms = sentence[2] if sentence[0] == "fact" else sentence[1:]
+        return {content for kind, content in terms if kind == "value"}
+    parts = sentence[1] if sentence[0] in ("and", "or") else sentence[-1:]
+    return set().union(*[values_in(part) for part in parts])
+
+
+def sentence_holds(store, sentence, domain=None, values=None):
+    """[37], by trying all values."""
+    if domain is None:
+        domain = values_in(sentence) | {value for _, row in store for value in row}
+    values = values or {}
+    kind = sentence[0]
+    if kind == "fact":
+        return (sentence[1], turned(sentence[2], values)) in store
+    if kind == "same":
+        one, other = turned(sentence[1:], values)
+        return one == other
+    if kind == "not":
+        return not sentence_holds(store, sentence[1], domain, values)
+    if kind in ("and", "or"):
+        return (all if kind == "and" else any)(
+            [sentence_holds(store, part, domain, values) for part in sentence[1]])
+    return (any if kind == "some" else all)(
+        [sentence_holds(store, sentence[2], domain, {**values, sentence[1]: value})
+         for value in domain])
+
+
 def with_choices(schema, store, choices):
     """The store without the rivals of the choices, which are a dict of rows by places."""
     return tuple([fact for fact in store
@@ -388,6 +418,25 @@ class Chances:
             joins.append((tuple([var(self.pick(inside)) if inside and self.below(4) else
                                  val(self.pick(values)) for _ in range(width)]), body))
         return (width, tuple(joins))
+
+    def sentence(self, schema, deep, names, values, bound=()):
+        """A valid sentence of at most this depth."""
+        kind = self.pick(["fact", "fact", "same", "not", "and", "or", "some", "each"])
+        if kind == "fact":
+            name, key, rest = self.pick(schema)
+            return ("fact", name, tuple([self.bound_term(values, bound) for _ in range(key + rest)]))
+        if kind == "same" or deep == 1:
+            return ("same", self.bound_term(values, bound), self.bound_term(values, bound))
+        if kind == "not":
+            return ("not", self.sentence(schema, deep - 1, names, values, bound))
+        if kind in ("and", "or"):
+            return (kind, tuple([self.sentence(schema, deep - 1, names, values, bound)
+                                 for _ in range(self.pick([0, 2, 2, 2, 3, 3, 4]))]))
+        name = self.pick(names)
+        return (kind, name, self.sentence(schema, deep - 1, names, values, bound + (name,)))
+
+    def bound_term(self, values, bound):
+        return var(self.pick(bound)) if bound and self.below(5) else val(self.pick(values))
 
     def store(self, schema, many, values):
         facts = []
